@@ -1,0 +1,90 @@
+package cursor_test
+
+import (
+	"math"
+	"testing"
+	"unsafe"
+
+	"runrig/api"
+	"runrig/cursor"
+)
+
+func tokens() []api.Tok {
+	return []api.Tok{
+		{Kind: api.KName, Text: "a", At: 3},
+		{Kind: api.KSign, Text: "+", At: 5},
+		{Kind: api.KWord, Text: "len", At: 7},
+		{Kind: api.KEnd, At: 10},
+	}
+}
+
+func checkResult(t *testing.T, c *cursor.Cursor, at int, fault api.Fault) {
+	t.Helper()
+	if gotAt, got := c.Result(); gotAt != at || got != fault {
+		t.Errorf("Result() = %d, %v; want %d, %v", gotAt, got, at, fault)
+	}
+}
+
+// Tokens are taken one after another.
+func TestTokensInTheirOrder(t *testing.T) {
+	c := cursor.New(tokens(), 0)
+	if c.Name() != "a" || !c.SeesSign("+") || c.Sign("+").At != 5 || c.SeesSign("len") || !c.Sees(api.KWord, "len") {
+		t.Error("not the tokens of the list")
+	}
+	checkResult(t, &c, 2, api.Fault{})
+	if c.Text() != "len" || c.Peek() != (api.Tok{Kind: api.KEnd, At: 10}) || c.Next() != (api.Tok{Kind: api.KEnd, At: 10}) {
+		t.Error("not the last tokens of the list")
+	}
+	checkResult(t, &c, 4, api.Fault{})
+}
+
+// An index without a token has a KEnd at offset 0.
+func TestIndexWithoutToken(t *testing.T) {
+	for _, at := range []int{math.MinInt, -1, 4, 5, math.MaxInt} {
+		c := cursor.New(tokens(), at)
+		if got := c.Peek(); got != (api.Tok{}) {
+			t.Errorf("Peek() at %d = %v", at, got)
+		}
+		checkResult(t, &c, at, api.Fault{})
+		c.Sign("+")
+		checkResult(t, &c, 0, api.Fault{E: api.ErrParse})
+	}
+	empty := cursor.New(nil, 0)
+	empty.Name()
+	checkResult(t, &empty, 0, api.Fault{E: api.ErrParse})
+}
+
+// The first fault stays, and nothing but the end is seen behind it.
+func TestFirstFaultStays(t *testing.T) {
+	c := cursor.New(tokens(), 1)
+	c.Name()
+	c.Fail(api.ErrLimit)
+	c.Sign("+")
+	if got := c.Peek(); got != (api.Tok{}) || c.SeesSign("+") {
+		t.Errorf("Peek() = %v", got)
+	}
+	checkResult(t, &c, 0, api.Fault{E: api.ErrParse, At: 5})
+}
+
+// A token of the right text is still the wrong one if its kind is another.
+func TestKindsMatter(t *testing.T) {
+	for _, kind := range []int{api.KEnd, api.KName, api.KInt, api.KWord, -1, 5} {
+		c := cursor.New([]api.Tok{{Kind: kind, Text: "(", At: 8}}, 0)
+		c.Sign("(")
+		checkResult(t, &c, 0, api.Fault{E: api.ErrParse, At: 8})
+	}
+	for _, kind := range []int{api.KEnd, api.KInt, api.KWord, api.KSign, -1, 5} {
+		c := cursor.New([]api.Tok{{Kind: kind, Text: "a", At: 8}}, 0)
+		c.Name()
+		checkResult(t, &c, 0, api.Fault{E: api.ErrParse, At: 8})
+	}
+}
+
+// A text lies in memory of its own.
+func TestTextsAreNew(t *testing.T) {
+	list := tokens()
+	c := cursor.New(list, 0)
+	if got := c.Text(); unsafe.StringData(got) == unsafe.StringData(list[0].Text) {
+		t.Error("the text is the token's")
+	}
+}
