@@ -70,10 +70,26 @@ func (c *Cursor) Fail(e api.Errno) {
 	}
 }
 
-// Result is the index of the next token, or the fault.
-func (c *Cursor) Result() (int, api.Fault) {
+// Read has another parser read from the next token on, and goes on behind what that has read, or keeps its fault.
+func Read[T any](c *Cursor, parse func(tokens []api.Tok, at int) (T, int, api.Fault)) T {
+	var none T
 	if c.fault.E != api.OK {
-		return 0, c.fault
+		return none
 	}
-	return c.at, api.Fault{}
+	read, end, fault := parse(c.tokens, c.at)
+	if fault.E != api.OK {
+		c.fault = fault
+		return none
+	}
+	c.at = end
+	return read
+}
+
+// Result is what a parser answers that has read this: it and the index of the next token, or the fault alone.
+func Result[T any](c *Cursor, read T) (T, int, api.Fault) {
+	if c.fault.E != api.OK {
+		var none T
+		return none, 0, c.fault
+	}
+	return read, c.at, api.Fault{}
 }

@@ -2,6 +2,7 @@ package cursor_test
 
 import (
 	"math"
+	"slices"
 	"testing"
 	"unsafe"
 
@@ -20,8 +21,12 @@ func tokens() []api.Tok {
 
 func checkResult(t *testing.T, c *cursor.Cursor, at int, fault api.Fault) {
 	t.Helper()
-	if gotAt, got := c.Result(); gotAt != at || got != fault {
-		t.Errorf("Result() = %d, %v; want %d, %v", gotAt, got, at, fault)
+	want := "read"
+	if fault.E != api.OK {
+		want = ""
+	}
+	if got, gotAt, gotFault := cursor.Result(c, "read"); got != want || gotAt != at || gotFault != fault {
+		t.Errorf("Result() = %q, %d, %v; want %q, %d, %v", got, gotAt, gotFault, want, at, fault)
 	}
 }
 
@@ -86,5 +91,39 @@ func TestTextsAreNew(t *testing.T) {
 	c := cursor.New(list, 0)
 	if got := c.Text(); unsafe.StringData(got) == unsafe.StringData(list[0].Text) {
 		t.Error("the text is the token's")
+	}
+}
+
+// Another parser reads from the next token on, and what follows is behind what it has read.
+func TestReadOn(t *testing.T) {
+	list := tokens()
+	c := cursor.New(list, 1)
+	got := cursor.Read(&c, func(tokens []api.Tok, at int) (string, int, api.Fault) {
+		if !slices.Equal(tokens, list) {
+			t.Errorf("read on in %v", tokens)
+		}
+		return tokens[at].Text, at + 2, api.Fault{}
+	})
+	if got != "+" || c.Peek().At != 10 {
+		t.Errorf("%q was read, and %v is next", got, c.Peek())
+	}
+	checkResult(t, &c, 3, api.Fault{})
+}
+
+// The fault of another parser stays, and nothing of what it has read; behind a fault none is asked.
+func TestReadOnFault(t *testing.T) {
+	c := cursor.New(tokens(), 1)
+	want := api.Fault{E: api.ErrLimit, At: 7}
+	asked := 0
+	for range 2 {
+		got := cursor.Read(&c, func([]api.Tok, int) (string, int, api.Fault) {
+			asked++
+			return "read", 3, want
+		})
+		if got != "" || asked != 1 || c.Peek() != (api.Tok{}) {
+			t.Errorf("%q was read by call %d, and %v is next", got, asked, c.Peek())
+		}
+		c.Fail(api.ErrParse)
+		checkResult(t, &c, 0, want)
 	}
 }

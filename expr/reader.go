@@ -7,8 +7,7 @@ import (
 
 // reader reads an expression. Its steps behind a fault are harmless: see cursor.Cursor.
 type reader struct {
-	cursor.Cursor
-	open int // brackets and operators, at most MaxDeep of them
+	cursor.Nested
 
 	byKind   map[int]func() api.Expr
 	byWord   map[string]func(*reader) api.Expr
@@ -16,8 +15,7 @@ type reader struct {
 }
 
 func newReader(l []api.Tok, at, open int) *reader {
-	// More than MaxDeep forbid no more than MaxDeep do, and this way the count cannot overflow.
-	r := &reader{Cursor: cursor.New(l, at), open: min(max(open, 0), api.MaxDeep)}
+	r := &reader{Nested: cursor.NewNested(l, at, open)}
 	r.byKind = r.stepsByKind()
 	r.byWord = stepsByWord()
 	r.bySuffix = stepsBySuffix()
@@ -113,9 +111,9 @@ func (r *reader) unary() api.Expr {
 }
 
 func (r *reader) prefixed(sign string, kind int) api.Expr {
-	at := r.enter(sign).At
+	at := r.Enter(sign).At
 	operand := r.unary()
-	r.open--
+	r.Leave()
 	return api.Expr{Kind: kind, At: at, Kids: []api.Expr{operand}}
 }
 
@@ -166,7 +164,7 @@ func (r *reader) variableOrCall() api.Expr {
 
 func (r *reader) arguments() []api.Expr {
 	var list []api.Expr
-	r.enter("(")
+	r.Enter("(")
 	if !r.SeesSign(")") {
 		list = append(list, r.expression())
 	}
@@ -174,7 +172,7 @@ func (r *reader) arguments() []api.Expr {
 		r.Next()
 		list = append(list, r.expression())
 	}
-	r.leave(")")
+	r.closeWith(")")
 	return list
 }
 
@@ -221,32 +219,23 @@ func (r *reader) length() api.Expr {
 
 func (r *reader) input() api.Expr {
 	at := r.Next().At
-	r.enter("(")
-	r.leave(")")
+	r.Enter("(")
+	r.closeWith(")")
 	return api.Expr{Kind: api.ERead, At: at}
 }
 
 // enclosed reads an expression between two brackets.
 func (r *reader) enclosed(opening, closing string) api.Expr {
-	r.enter(opening)
+	r.Enter(opening)
 	e := r.expression()
-	r.leave(closing)
+	r.closeWith(closing)
 	return e
 }
 
-// enter takes a bracket or an operator that is open from here on.
-func (r *reader) enter(sign string) api.Tok {
-	if r.SeesSign(sign) && r.open == api.MaxDeep {
-		r.Fail(api.ErrLimit)
-	}
-	r.open++
-	return r.Sign(sign)
-}
-
-// leave takes a bracket that closes what was entered last.
-func (r *reader) leave(sign string) {
+// closeWith takes the bracket that closes what was entered last.
+func (r *reader) closeWith(sign string) {
 	r.Sign(sign)
-	r.open--
+	r.Leave()
 }
 
 // refuse says that no expression begins with the next token.
